@@ -1,0 +1,1 @@
+"""Treestacks: texts with a gap, trees put into trees and kinds with stacks, with papers."""
