@@ -4,7 +4,7 @@ from grammars import AB, CD, EACH_READING, EACH_SHAPE, ODD_VALUES, Row, all_of_k
 from treestacks.errors import InvalidReading
 from treestacks.pairs import Pairs, kind_of, pair_of, text_of
 
-# One kind that may be put on for ever; a row of so many rules, and one with two parts.
+# Kind 0 is put together of itself, so its readings may be as large and as deep as is asked for.
 ONE_KIND = Pairs(2, ((0, "left", "a"), (0, "wrap", 0, 0), (1, "same", 0), (0, "behind", 0, 1), (0, "right", "b")))
 
 
