@@ -1,5 +1,6 @@
 """Grammars, texts and wrong values for the tests, and a slow way to all readings that shares no code with them."""
 
+import itertools
 import random
 
 from treestacks.pairs import Pairs
@@ -61,6 +62,18 @@ ODD_VALUES = (
     EACH_SHAPE, (EACH_SHAPE,), [EACH_SHAPE], nested(60), nested(59, EACH_SHAPE), nested(59, True),
     (None,) * 30000, ["a"] * 30000, "a" * 4000, ("A",), ("a", 0), ("abcd",), ("a" * 4000,),
 )
+
+# What is no text.
+WRONG_TEXTS = (
+    ["a"], "a", "", ("",), ("A",), ("abcd",), ("a", ""), ("a", None), ("a", True), ("a", 0), ("a", ("a",)),
+    ("a", ["a"]), ("a", "\u00e9"), ("a", b"a"), ("a", "a "), ("a", EACH_SHAPE), {"a": 1}, *ODD_VALUES,
+)
+
+
+def texts_of(words, most):
+    """All texts of at most so many of these words."""
+    for many in range(most + 1):
+        yield from itertools.product(words, repeat=many)
 
 
 def is_plain(value):
@@ -160,3 +173,18 @@ def drawn_pairs(seed, kinds, many, words):
     rules = begun + [some_rule(chance, kinds, words) for _ in range(many - 2)]
     chance.shuffle(rules)
     return Pairs(kinds, tuple(rules))
+
+
+def alike(one, other):
+    """Whether two values of tuples, integers and strings are equal, however deep they are."""
+    waiting = [(one, other)]
+    while waiting:
+        one, other = waiting.pop()
+        if not isinstance(one, tuple) or not isinstance(other, tuple):
+            if type(one) is not type(other) or one != other:
+                return False
+        elif len(one) != len(other):
+            return False
+        else:
+            waiting += zip(one, other)
+    return True

@@ -30,6 +30,14 @@ INTERFACE = {
         "kind_of": ["pairs", "reading"],
     },
     "reading": {"readings": ["pairs", "text"], "some_reading": ["pairs", "text"]},
+    "items": {"bars": ["pairs", "text"], "bars_hold": ["pairs", "text", "value"], "tally": ["pairs", "text"]},
+    "trees": {
+        "Trees": ["kinds", "trees"], "tree_text": ["trees", "reading"], "tree_readings": ["trees", "text"],
+    },
+    "leading": {
+        "trees_of": ["pairs"], "tree_reading_of": ["pairs", "reading"], "reading_from_trees": ["pairs", "reading"],
+        "pairs_of": ["trees"], "reading_of_tree": ["trees", "reading"], "tree_of_reading": ["trees", "reading"],
+    },
 }
 
 
@@ -108,9 +116,10 @@ class TestLanguage(unittest.TestCase):
                 self.assertEqual(parameters(there[name]), due, name)
 
     def test_each_listed_method_stands_in_its_class(self):
-        tree = ast.parse((FOLDER / "pairs.py").read_text(encoding="utf-8"))
-        pairs = [node for node in tree.body if isinstance(node, ast.ClassDef) and node.name == "Pairs"]
-        self.assertLessEqual({"__init__", "__eq__"}, {part.name for part in pairs[0].body if hasattr(part, "name")})
+        for file, name in (("pairs", "Pairs"), ("trees", "Trees")):
+            tree = ast.parse((FOLDER / (file + ".py")).read_text(encoding="utf-8"))
+            found = [node for node in tree.body if isinstance(node, ast.ClassDef) and node.name == name]
+            self.assertLessEqual({"__init__", "__eq__"}, {part.name for part in found[0].body if hasattr(part, "name")})
 
 
 if __name__ == "__main__":

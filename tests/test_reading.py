@@ -1,15 +1,12 @@
 import itertools
 import unittest
 
-from grammars import AB, EACH_SHAPE, ODD_VALUES, SHAPES, Row, all_of_kinds, drawn_pairs, has_reading, is_plain
+from grammars import (
+    AB, EACH_SHAPE, SHAPES, WRONG_TEXTS, Row, all_of_kinds, drawn_pairs, has_reading, is_plain, texts_of,
+)
 from treestacks.errors import InvalidText, Undefined
 from treestacks.pairs import Pairs, kind_of, pair_of, text_of
 from treestacks.reading import readings, some_reading
-
-WRONG_TEXTS = (
-    ["a"], "a", "", ("",), ("A",), ("abcd",), ("a", ""), ("a", None), ("a", True), ("a", 0), ("a", ("a",)),
-    ("a", ["a"]), ("a", "\u00e9"), ("a", b"a"), ("a", "a "), ("a", EACH_SHAPE), {"a": 1}, *ODD_VALUES,
-)
 
 FOUR_PARTS = Pairs(8, (
     (0, "wrap", 1, 2), (0, "wrap", 3, 2), (1, "wrap", 3, 0), (2, "wrap", 4, 5), (3, "wrap", 6, 7),
@@ -26,12 +23,6 @@ RICH = (
     Pairs(1, ((0, "left", "a"), (0, "right", "a"), (0, "right", "b"), (0, "wrap", 0, 0), (0, "ahead", 0, 0),
               (0, "behind", 0, 0))),
 )
-
-
-def texts_of(words, most):
-    """All texts of at most so many of these words."""
-    for many in range(most + 1):
-        yield from itertools.product(words, repeat=many)
 
 
 class TestAllReadings(unittest.TestCase):

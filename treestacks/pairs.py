@@ -2,6 +2,7 @@
 
 from treestacks.basics import is_between, is_word
 from treestacks.errors import Endless, InvalidNumber, InvalidReading, InvalidRules
+from treestacks.steps import endless_kind
 
 MOST_KINDS = 40
 MOST_RULES = 90
@@ -20,7 +21,7 @@ class Pairs:
             raise InvalidNumber(kinds)
         if not is_rules(rules, kinds):
             raise InvalidRules(rules)
-        endless = endless_kind(kinds, rules)
+        endless = endless_kind(steps_of(kinds, rules))
         if endless is not None:
             raise Endless(endless)
         self.kinds = kinds
@@ -67,28 +68,6 @@ def steps_of(kinds, rules):
         if rule[1] in ONE_SHAPES:
             steps[rule[0]].append(rule[2])
     return steps
-
-
-def endless_kind(kinds, rules):
-    """Return the least kind that comes back to itself by one or more steps, or None."""
-    steps = steps_of(kinds, rules)
-    for kind in range(kinds):
-        if kind in kinds_behind(steps, kind):
-            return kind
-    return None
-
-
-def kinds_behind(steps, kind):
-    """List the kinds to which kind comes by one or more steps."""
-    found = []
-    waiting = [kind]
-    while waiting:
-        at = waiting.pop()
-        for one in steps[at]:
-            if one not in found:
-                found.append(one)
-                waiting.append(one)
-    return found
 
 
 def pair_of(pairs, reading):

@@ -3,6 +3,7 @@
 from treestacks.basics import MOST_WORDS, is_text
 from treestacks.errors import InvalidText, Undefined
 from treestacks.pairs import ONE_SHAPES, WORD_SHAPES, steps_of
+from treestacks.steps import kinds_in_order
 
 MOST_WORDS_FOR_ALL = 3
 MOST_RULES_FOR_ALL = 6
@@ -63,24 +64,10 @@ def rules_in_order(pairs):
     needs those of its one, of as many words.
     """
     order = []
-    for kind in kinds_in_order(pairs):
+    for kind in kinds_in_order(steps_of(pairs.kinds, pairs.rules)):
         for number, rule in enumerate(pairs.rules):
             if rule[0] == kind:
                 order.append(number)
-    return order
-
-
-def kinds_in_order(pairs):
-    """List all kinds, each behind those to which its rules with one part lead.
-
-    This ends, as no kind comes back to itself.
-    """
-    steps = steps_of(pairs.kinds, pairs.rules)
-    order = []
-    while len(order) < pairs.kinds:
-        for kind in range(pairs.kinds):
-            if kind not in order and all([one in order for one in steps[kind]]):
-                order.append(kind)
     return order
 
 
