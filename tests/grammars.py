@@ -77,10 +77,15 @@ def texts_of(words, most):
 
 
 def is_plain(value):
-    """Whether each tuple in value is of no class of its own, and each integer no bool."""
-    if isinstance(value, tuple):
-        return type(value) is tuple and all(is_plain(part) for part in value)
-    return type(value) in (int, str)
+    """Whether each tuple in value is of no class of its own, and each integer no bool, however deep it is."""
+    waiting = [value]
+    while waiting:
+        value = waiting.pop()
+        if type(value) not in (tuple, int, str):
+            return False
+        if type(value) is tuple:
+            waiting += value
+    return True
 
 
 def given(rule, parts):

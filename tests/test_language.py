@@ -38,6 +38,9 @@ INTERFACE = {
         "trees_of": ["pairs"], "tree_reading_of": ["pairs", "reading"], "reading_from_trees": ["pairs", "reading"],
         "pairs_of": ["trees"], "reading_of_tree": ["trees", "reading"], "tree_of_reading": ["trees", "reading"],
     },
+    "stacks": {"Stacks": ["rules"], "run_text": ["stacks", "run"]},
+    "runs": {"stacks_of": ["trees"], "run_of": ["trees", "reading"], "reading_of_run": ["trees", "run"]},
+    "growing": {"grown": ["pairs", "reading", "outer", "inner", "times"]},
 }
 
 
@@ -116,7 +119,7 @@ class TestLanguage(unittest.TestCase):
                 self.assertEqual(parameters(there[name]), due, name)
 
     def test_each_listed_method_stands_in_its_class(self):
-        for file, name in (("pairs", "Pairs"), ("trees", "Trees")):
+        for file, name in (("pairs", "Pairs"), ("trees", "Trees"), ("stacks", "Stacks")):
             tree = ast.parse((FOLDER / (file + ".py")).read_text(encoding="utf-8"))
             found = [node for node in tree.body if isinstance(node, ast.ClassDef) and node.name == name]
             self.assertLessEqual({"__init__", "__eq__"}, {part.name for part in found[0].body if hasattr(part, "name")})

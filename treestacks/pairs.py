@@ -119,6 +119,15 @@ def numbers_of(pairs, reading, most):
     return numbers
 
 
+def plain_reading(pairs, numbers):
+    """Return the reading whose rules have these numbers, as numbers_of lists them."""
+    done = []
+    for number in reversed(numbers):
+        parts = [done.pop() for _ in part_kinds(pairs.rules[number])]
+        done.append((number, *parts))
+    return done[0]
+
+
 def begins_reading(pairs, kind, value):
     """Tell whether value has the number of a rule of this kind (of any kind, if it is None) and its many parts.
 
