@@ -41,6 +41,28 @@ INTERFACE = {
     "stacks": {"Stacks": ["rules"], "run_text": ["stacks", "run"]},
     "runs": {"stacks_of": ["trees"], "run_of": ["trees", "reading"], "reading_of_run": ["trees", "run"]},
     "growing": {"grown": ["pairs", "reading", "outer", "inner", "times"]},
+    "lengths": {
+        "lengths": ["pairs"], "longest": ["pairs"], "loop": ["pairs"], "loop_holds": ["pairs", "value"],
+        "texts": ["pairs", "many"], "four_parts": [],
+    },
+    "claims": {
+        "is_question": ["pairs", "value"], "is_claim": ["pairs", "value"], "answer_of": ["pairs", "question"],
+        "question_of": ["pairs", "claim"],
+    },
+    "papers": {"paper_of": ["pairs", "question"], "claim_holds": ["pairs", "claim", "paper"]},
+    "desk": {"Desk": ["pairs"], "same_state": ["one", "other"]},
+}
+
+# The methods of the classes of the interface, by file and class, with their parameters behind the first one.
+METHODS = {
+    ("pairs", "Pairs"): {"__init__": ["kinds", "rules"], "__eq__": ["other"]},
+    ("trees", "Trees"): {"__init__": ["kinds", "trees"], "__eq__": ["other"]},
+    ("stacks", "Stacks"): {"__init__": ["rules"], "__eq__": ["other"]},
+    ("desk", "Desk"): {
+        "__init__": ["pairs"], "put": ["place", "rule"], "take": ["place"], "turn": ["place", "rule"],
+        "watch": ["question"], "leave": ["question"], "undo": [], "redo": [], "claim": ["question"],
+        "paper": ["question"], "report": [],
+    },
 }
 
 
@@ -57,6 +79,11 @@ def parameters(node):
         return [argument.arg for argument in node.args.args]
     made = [part for part in node.body if isinstance(part, ast.FunctionDef) and part.name == "__init__"]
     return parameters(made[0])[1:] if made else None
+
+
+def imported(tree):
+    """The modules of the package from which a file imports."""
+    return {node.module.split(".")[1] for node in tree.body if isinstance(node, ast.ImportFrom)}
 
 
 class TestLanguage(unittest.TestCase):
@@ -119,10 +146,18 @@ class TestLanguage(unittest.TestCase):
                 self.assertEqual(parameters(there[name]), due, name)
 
     def test_each_listed_method_stands_in_its_class(self):
-        for file, name in (("pairs", "Pairs"), ("trees", "Trees"), ("stacks", "Stacks")):
+        for (file, name), due in METHODS.items():
             tree = ast.parse((FOLDER / (file + ".py")).read_text(encoding="utf-8"))
             found = [node for node in tree.body if isinstance(node, ast.ClassDef) and node.name == name]
-            self.assertLessEqual({"__init__", "__eq__"}, {part.name for part in found[0].body if hasattr(part, "name")})
+            there = {part.name: parameters(part)[1:] for part in found[0].body if isinstance(part, ast.FunctionDef)}
+            self.assertLessEqual(due.items(), there.items())
+
+    def test_no_module_is_imported_in_a_circle(self):
+        behind = {name[:-3]: imported(tree) for name, _, tree in trees()}
+        while behind:
+            free = [name for name, names in behind.items() if not names & set(behind)]
+            self.assertNotEqual(free, [], behind)
+            behind = {name: names for name, names in behind.items() if name not in free}
 
 
 if __name__ == "__main__":

@@ -3,7 +3,7 @@ import unittest
 from grammars import (
     EACH_READING, EACH_SHAPE, ODD_VALUES, SHAPES, Row, alike, all_of_kinds, drawn_pairs, is_plain, nested,
 )
-from groves import FOOT, GROVE, all_tree_readings, graft, plain, text_given, word, words_given
+from groves import FOOT, GROVE, all_tree_readings, plain, word, words_given
 from treestacks.errors import InvalidReading, Undefined
 from treestacks.leading import reading_from_trees, tree_reading_of, trees_of
 from treestacks.pairs import Pairs, pair_of, text_of

@@ -27,3 +27,23 @@ def is_text(value, most):
     if not isinstance(value, tuple) or len(value) > most:
         return False
     return all([is_word(word) for word in value])
+
+
+def alike(value, due):
+    """Tell whether value is equal to due, which has nothing but tuples, integers and strings in it.
+
+    No function calls itself or compares whole tuples: they may be deeper than calls can be, and have a bool in them
+    where due has an integer.
+    """
+    waiting = [(value, due)]
+    while waiting:
+        one, other = waiting.pop()
+        if isinstance(other, tuple):
+            if not isinstance(one, tuple) or len(one) != len(other):
+                return False
+            waiting.extend(list(zip(one, other)))
+        else:
+            fits = isinstance(one, str) if isinstance(other, str) else is_integer(one)
+            if not fits or one != other:
+                return False
+    return True
